@@ -1,0 +1,1 @@
+"""Floors that one can walk, from triangles, and ways on them."""

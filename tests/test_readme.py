@@ -1,0 +1,21 @@
+"""The examples in README.md."""
+
+import doctest
+import pathlib
+import unittest
+
+README = pathlib.Path(__file__).resolve().parent.parent / "README.md"
+
+
+class Readme(unittest.TestCase):
+
+    def test_examples(self):
+        # A fence would be read as a part of what an example prints.
+        text = README.read_text("utf-8").replace("```", "")
+        test = doctest.DocTestParser().get_doctest(text, {}, "README.md", str(README), 0)
+        self.assertGreater(len(test.examples), 5)
+        self.assertEqual(doctest.DocTestRunner(verbose=False).run(test).failed, 0)
+
+
+if __name__ == "__main__":
+    unittest.main()
