@@ -1,12 +1,11 @@
 """Points 3.1 and 3.2: normals, flat triangles, and what triangles have over rectangles."""
 
 from fractions import Fraction
-from itertools import combinations, permutations, product
+from itertools import permutations, product
 import unittest
 
 from footpath.clipping import extent, is_flat, less, normal
-
-FAR = 1000000
+from tests.reference import FAR, heights_over
 
 
 def turned(triangle):
@@ -24,28 +23,6 @@ def heights(triangle, x0, z0, x1, z1):
     assert {type(number) for one in found for number in one} == {int}, found
     assert low_den > 0 and high_den > 0, found
     return (Fraction(low, low_den), Fraction(high, high_den))
-
-
-def expected(triangle, x0, z0, x1, z1):
-    """The extent as a pair of Fractions, found by the shares of the second and the third corner.
-
-    A point of the triangle is the first corner plus s times one edge plus t times another one.
-    What is over the rectangle is where some lines in the plane of (s, t) are not passed, and the
-    height is least and greatest where two of these lines meet.
-    """
-    (ax, ay, az), (bx, by, bz), (cx, cy, cz) = triangle
-    x, z = (ax, bx - ax, cx - ax), (az, bz - az, cz - az)
-    lines = [(0, 1, 0), (0, 0, 1), (1, -1, -1)]
-    for (first, by_s, by_t), low, high in ((x, x0, x1), (z, z0, z1)):
-        lines += [(first - low, by_s, by_t), (high - first, -by_s, -by_t)]
-    found = []
-    for (c, a, b), (f, d, e) in combinations(lines, 2):
-        both = a * e - b * d
-        if both:
-            s, t = Fraction(b * f - c * e, both), Fraction(c * d - a * f, both)
-            if all(first + s * by_s + t * by_t >= 0 for first, by_s, by_t in lines):
-                found.append(ay + s * (by - ay) + t * (cy - ay))
-    return (min(found), max(found)) if found else None
 
 
 class Normals(unittest.TestCase):
@@ -263,7 +240,7 @@ class Extents(unittest.TestCase):
         self.over(whole, (-FAR, 1 - FAR), (-FAR, -FAR, 1 - FAR, 1 - FAR))
         thin = ((-FAR, -FAR, -FAR), (FAR, FAR, FAR - 1), (FAR, FAR - 1, FAR))
         for rectangle in ((0, 0, 1, 1), (-FAR, -FAR, 1 - FAR, 1 - FAR), (999990, 999990, FAR, FAR), (3, -7, 999, 999)):
-            self.over(thin, expected(thin, *rectangle), rectangle)
+            self.over(thin, heights_over(thin, *rectangle), rectangle)
 
     def test_all_small_triangles(self):
         # Each number is beyond an end, on an end or between the ends, so that all kinds of touching
@@ -272,7 +249,7 @@ class Extents(unittest.TestCase):
         corners = list(product((-2, 0, 2, 5), (-3, -1, 1, 2)))
         for (ax, az), (bx, bz), (cx, cz) in product(corners, repeat=3):
             triangle = ((ax, 4, az), (bx, -5, bz), (cx, 13, cz))
-            self.assertEqual(heights(triangle, *rectangle), expected(triangle, *rectangle), triangle)
+            self.assertEqual(heights(triangle, *rectangle), heights_over(triangle, *rectangle), triangle)
 
     def test_arguments_are_not_changed(self):
         triangle = ((-10, 0, 4), (20, 30, 4), (20, 30, 6))

@@ -27,6 +27,28 @@ INTERFACE = {
         "extent": ["triangle", "x0", "z0", "x1", "z1"],
         "less": ["one", "other"],
     },
+    "solids": {
+        "check_soup": ["soup"],
+        "check_boxes": ["boxes"],
+        "merged": ["solids"],
+        "column": ["settings", "soup", "boxes", "i", "k"],
+        "cells_of": ["settings", "box"],
+        "columns_of": ["settings", "soup", "boxes", "i0", "k0", "i1", "k1"],
+    },
+    "floors": {
+        "open_levels": ["settings", "solids"],
+        "levels_of": ["settings", "columns", "i", "k"],
+        "floors_of": ["settings", "columns", "cells"],
+        "partner": ["settings", "floors", "place", "di", "dk"],
+    },
+    "plates": {
+        "tile_plates": ["settings", "columns", "a", "b"],
+        "plate_floors": ["plate"],
+        "owners": ["plates"],
+        "joined_portals": ["settings", "plates"],
+        "mesh": ["settings", "columns"],
+    },
+    "world": {"reached_tiles": ["settings", "box"], "World": ["put", "take", "box_list", "stale", "tile", "mesh"]},
 }
 
 

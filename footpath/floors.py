@@ -1,0 +1,47 @@
+"""The floors of cells, and which of them are joined."""
+
+
+def open_levels(settings, solids):
+    """Return the list of the open levels of a column, in ascending order."""
+    found = []
+    for at, (_, hi, top) in enumerate(solids):
+        is_ground = top is not None and top >= hi - settings.slack
+        if is_ground and (at + 1 == len(solids) or solids[at + 1][0] >= hi + settings.tall):
+            found.append(hi)
+    return found
+
+
+def levels_of(settings, columns, i, k):
+    """Return the list of the levels of the floors of a cell, in ascending order."""
+    reach = settings.reach
+    if not (settings.has_cell(i - reach, k - reach) and settings.has_cell(i + reach, k + reach)):
+        return []
+    across = range(i - reach, i + reach + 1)
+    down = range(k - reach, k + reach + 1)
+    solids = [solid for b in down for a in across for solid in columns[(a, b)]]
+    levels = open_levels(settings, columns[(i, k)])
+    return [level for level in levels if has_room(solids, level + settings.rise, level + settings.tall)]
+
+
+def has_room(solids, low, high):
+    """Return True if none of the solids meets the open range from low to high."""
+    return all(hi <= low or lo >= high for lo, hi, _ in solids)
+
+
+def floors_of(settings, columns, cells):
+    """Return a dict from the cells of a list to the lists of the levels of their floors."""
+    return {(i, k): levels_of(settings, columns, i, k) for i, k in cells}
+
+
+def are_joined(settings, level, other):
+    """Return True if floors with these levels, in cells with a common side, are joined."""
+    return abs(level - other) <= settings.rise
+
+
+def partner(settings, floors, place, di, dk):
+    """Return the floor in the next cell in a direction that is joined to a floor, or None."""
+    i, k, level = place
+    for other in floors.get((i + di, k + dk), []):
+        if are_joined(settings, level, other):
+            return (i + di, k + dk, other)
+    return None
