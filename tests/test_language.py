@@ -48,6 +48,32 @@ INTERFACE = {
         "joined_portals": ["settings", "plates"],
         "mesh": ["settings", "columns"],
     },
+    "locate": {
+        "cell_of": ["settings", "x", "z"],
+        "floor_under": ["settings", "plates", "x", "y", "z"],
+        "nearest_floor": ["settings", "plates", "x", "y", "z"],
+        "square_distance": ["settings", "i", "k", "x", "z"],
+        "place_on": ["settings", "plates", "floor", "x", "z"],
+        "place_near": ["settings", "plates", "x", "y", "z"],
+        "levels_at": ["settings", "plates", "place"],
+    },
+    "search": {
+        "reached": ["mesh", "start"],
+        "fewest": ["mesh", "start", "goal"],
+        "plates_of": ["mesh", "start", "way"],
+        "cost": ["mesh", "start", "goal", "way"],
+        "cheapest": ["mesh", "start", "goal"],
+    },
+    "strings": {
+        "gate": ["mesh", "portal", "plate"],
+        "gates_of": ["mesh", "plates", "way"],
+        "taut": ["start", "gates", "end"],
+        "contacts": ["gates", "points", "bends"],
+        "is_taut": ["gates", "points", "bends"],
+        "length_bounds": ["points", "scale"],
+        "strung": ["mesh", "start", "goal", "way"],
+        "find_way": ["mesh", "start", "goal"],
+    },
     "world": {"reached_tiles": ["settings", "box"], "World": ["put", "take", "box_list", "stale", "tile", "mesh"]},
 }
 
