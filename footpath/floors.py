@@ -11,16 +11,29 @@ def open_levels(settings, solids):
     return found
 
 
-def levels_of(settings, columns, i, k):
-    """Return the list of the levels of the floors of a cell, in ascending order."""
+def cells_near(settings, i, k):
+    """Return the list of the cells within reach of a cell, or None if one of them is not in the grid."""
     reach = settings.reach
     if not (settings.has_cell(i - reach, k - reach) and settings.has_cell(i + reach, k + reach)):
-        return []
+        return None
     across = range(i - reach, i + reach + 1)
     down = range(k - reach, k + reach + 1)
-    solids = [solid for b in down for a in across for solid in columns[(a, b)]]
+    return [(a, b) for b in down for a in across]
+
+
+def levels_of(settings, columns, i, k):
+    """Return the list of the levels of the floors of a cell, in ascending order."""
+    near = cells_near(settings, i, k)
+    if near is None:
+        return []
     levels = open_levels(settings, columns[(i, k)])
-    return [level for level in levels if has_room(solids, level + settings.rise, level + settings.tall)]
+    return [level for level in levels if has_body_room(settings, columns, near, level)]
+
+
+def has_body_room(settings, solids, near, level):
+    """Return True if the solids over all cells of a list leave room for the walker on a level."""
+    low, high = level + settings.rise, level + settings.tall
+    return all(has_room(solids[cell], low, high) for cell in near)
 
 
 def has_room(solids, low, high):

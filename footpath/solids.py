@@ -103,19 +103,34 @@ def cells_of(settings, box):
     return (i0, k0, i1, k1) if i0 <= i1 and k0 <= k1 else None
 
 
+def solids_over(settings, soup, boxes, cells):
+    """Return a dict from a list of the grid's cells to the solids that single triangles and boxes fill there."""
+    solids = {cell: [] for cell in cells}
+    if not solids:
+        return solids
+    about = range_about(cells)
+    for triangle in soup:
+        for cell in cells_in_both(about, triangle_range(settings, triangle)):
+            solid = triangle_solid(settings, triangle, cell[0], cell[1]) if cell in solids else None
+            if solid is not None:
+                solids[cell].append(solid)
+    for box in boxes:
+        for cell in cells_in_both(about, box_range(settings, box)):
+            if cell in solids:
+                solids[cell].append(box_solid(settings, box))
+    return solids
+
+
+def range_about(cells):
+    """Return the least range (i0, k0, i1, k1) that has all cells of a list."""
+    across, down = [i for i, _ in cells], [k for _, k in cells]
+    return (min(across), min(down), max(across), max(down))
+
+
 def columns_of(settings, soup, boxes, i0, k0, i1, k1):
     """Return a dict from the grid's cells with i from i0 to i1 and k from k0 to k1 to their columns."""
-    asked = (i0, k0, i1, k1)
-    grid = (0, 0, settings.columns - 1, settings.rows - 1)
-    solids = {cell: [] for cell in cells_in_both(asked, grid)}
-    for triangle in soup:
-        for i, k in cells_in_both(asked, triangle_range(settings, triangle)):
-            solid = triangle_solid(settings, triangle, i, k)
-            if solid is not None:
-                solids[(i, k)].append(solid)
-    for box in boxes:
-        for cell in cells_in_both(asked, box_range(settings, box)):
-            solids[cell].append(box_solid(settings, box))
+    cells = cells_in_both((i0, k0, i1, k1), (0, 0, settings.columns - 1, settings.rows - 1))
+    solids = solids_over(settings, soup, boxes, cells)
     return {cell: merged(solids[cell]) for cell in solids}
 
 

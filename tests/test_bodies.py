@@ -5,33 +5,7 @@ import unittest
 
 from footpath.plates import mesh, plate_floors
 from footpath.solids import columns_of
-from tests.reference import heights_over, is_flat_thing, some_world
-
-
-def clipped(corners, axis, sign, bound):
-    """What a convex polygon has where sign * number is not below sign * bound."""
-    kept = []
-    for one, other in zip(corners[-1:] + corners[:-1], corners):
-        a, b = (sign * (point[axis] - bound) for point in (one, other))
-        if a * b < 0:
-            kept.append(tuple(p + (q - p) * Fraction(a, a - b) for p, q in zip(one, other)))
-        if b >= 0:
-            kept.append(other)
-    return kept
-
-
-def is_touched(low, high, triangle):
-    """Whether a point inside a box, given by its least and its greatest corner, is in a triangle.
-
-    The middle of what the triangle has in the closed box is inside, if any point of it is.
-    """
-    corners = [tuple(Fraction(number) for number in point) for point in triangle]
-    for axis in range(3):
-        corners = clipped(clipped(corners, axis, 1, low[axis]), axis, -1, high[axis])
-    if not corners:
-        return False
-    middle = [sum(numbers) / len(corners) for numbers in zip(*corners)]
-    return all(a < number < b for a, number, b in zip(low, middle, high))
+from tests.reference import heights_over, is_flat_thing, is_touched, some_world
 
 
 def body_box(settings, floor):

@@ -74,6 +74,20 @@ INTERFACE = {
         "strung": ["mesh", "start", "goal", "way"],
         "find_way": ["mesh", "start", "goal"],
     },
+    "boxes": {
+        "touches": ["box", "triangle"],
+        "touches_box": ["box", "other"],
+        "walker_box": ["settings", "x", "z", "hi"],
+        "is_free": ["settings", "soup", "boxes", "x", "z", "hi"],
+        "first_touched": ["settings", "soup", "boxes", "x", "z", "hi"],
+    },
+    "papers": {"paper": ["settings", "mesh", "way"], "check": ["settings", "soup", "boxes", "paper"]},
+    "moving": {
+        "advanced": ["points", "position", "speed"],
+        "exact_point": ["points", "position"],
+        "Journey": ["tick"],
+    },
+    "console": {"run_script": ["text"]},
     "world": {"reached_tiles": ["settings", "box"], "World": ["put", "take", "box_list", "stale", "tile", "mesh"]},
 }
 
@@ -125,7 +139,8 @@ class Language(unittest.TestCase):
             self.assertEqual(node.decorator_list, [], (file, node.name))
 
     def test_names(self):
-        named = {name for name in vars(builtins)}
+        # An example that prints a value gives "_" to the builtins.
+        named = {name for name in vars(builtins)} - {"_"}
         for file, node in nodes(ast.Name):
             if isinstance(node.ctx, ast.Load):
                 self.assertFalse(node.id in named - BUILTINS and node.id != "print", (file, node.lineno, node.id))
@@ -138,6 +153,29 @@ class Language(unittest.TestCase):
         for file, tree in trees():
             for node in tree.body:
                 self.assertNotIn(getattr(node, "name", None), named | BARRED, (file, node.lineno))
+
+    def test_no_local_name_of_an_import_or_a_class(self):
+        for file, tree in trees():
+            taken = {node.name for node in tree.body if isinstance(node, ast.ClassDef)}
+            for node in tree.body:
+                if isinstance(node, ast.ImportFrom):
+                    taken |= {name.asname or name.name for name in node.names}
+            for node in ast.walk(tree):
+                if isinstance(node, ast.arg):
+                    self.assertNotIn(node.arg, taken, (file, node.lineno))
+                if isinstance(node, ast.Name) and not isinstance(node.ctx, ast.Load):
+                    self.assertNotIn(node.id, taken, (file, node.lineno))
+
+    def test_calls_pass_what_is_taken(self):
+        # Both Pythons find this only when the line is run.
+        for file, tree in trees():
+            module = importlib.import_module("footpath." + file.stem) if file.stem != "__init__" else None
+            for node in ast.walk(tree):
+                if isinstance(node, ast.Call) and isinstance(node.func, ast.Name):
+                    value = getattr(module, node.func.id, None)
+                    if inspect.isfunction(value) and not any(isinstance(arg, ast.Starred) for arg in node.args):
+                        keywords = {keyword.arg: None for keyword in node.keywords}
+                        inspect.signature(value).bind(*node.args, **keywords)
 
     def test_interface(self):
         for file, names in INTERFACE.items():
