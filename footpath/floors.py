@@ -1,5 +1,10 @@
 """The floors of cells, and which of them are joined."""
 
+from footpath.solids import cells_in
+
+# From a cell to its neighbours: right, left, down and up.
+DIRECTIONS = ((1, 0), (-1, 0), (0, 1), (0, -1))
+
 
 def open_levels(settings, solids):
     """Return the list of the open levels of a column, in ascending order."""
@@ -11,29 +16,27 @@ def open_levels(settings, solids):
     return found
 
 
-def cells_near(settings, i, k):
-    """Return the list of the cells within reach of a cell, or None if one of them is not in the grid."""
+def cells_near(settings, i0, k0, i1, k1):
+    """Return the list of the cells within reach of those of a range, or None if one of them is not in the grid."""
     reach = settings.reach
-    if not (settings.has_cell(i - reach, k - reach) and settings.has_cell(i + reach, k + reach)):
+    if not (settings.has_cell(i0 - reach, k0 - reach) and settings.has_cell(i1 + reach, k1 + reach)):
         return None
-    across = range(i - reach, i + reach + 1)
-    down = range(k - reach, k + reach + 1)
-    return [(a, b) for b in down for a in across]
+    return cells_in(i0 - reach, k0 - reach, i1 + reach, k1 + reach)
 
 
 def levels_of(settings, columns, i, k):
     """Return the list of the levels of the floors of a cell, in ascending order."""
-    near = cells_near(settings, i, k)
+    near = cells_near(settings, i, k, i, k)
     if near is None:
         return []
     levels = open_levels(settings, columns[(i, k)])
-    return [level for level in levels if has_body_room(settings, columns, near, level)]
+    return [level for level in levels if has_body_room(settings, columns, near, level, level)]
 
 
-def has_body_room(settings, solids, near, level):
-    """Return True if the solids over all cells of a list leave room for the walker on a level."""
-    low, high = level + settings.rise, level + settings.tall
-    return all(has_room(solids[cell], low, high) for cell in near)
+def has_body_room(settings, solids, cells, level, lifted):
+    """Return True if the solids over all cells of a list leave room for a walker that is lifted from a level."""
+    low, high = level + settings.rise, lifted + settings.tall
+    return all(has_room(solids[cell], low, high) for cell in cells)
 
 
 def has_room(solids, low, high):

@@ -92,9 +92,9 @@ def check(settings, soup, boxes, paper):
 def cells_needed(settings, pieces):
     """Return the list of the grid's cells at which the checker of the pieces has to look."""
     needed = {}
-    for place in {(piece[0], piece[1]): True for piece in pieces}:
-        if settings.has_cell(place[0], place[1]):
-            for cell in cells_near(settings, place[0], place[1]) or [place]:
+    for i, k in {(piece[0], piece[1]): True for piece in pieces}:
+        if settings.has_cell(i, k):
+            for cell in cells_near(settings, i, k, i, k) or [(i, k)]:
                 needed[cell] = True
     return list(needed)
 
@@ -114,8 +114,8 @@ def fault_of(settings, solids, points, before, piece):
         return "outside"
     if not has_ground(settings, solids[(i, k)], level):
         return "ground"
-    near = cells_near(settings, i, k)
-    if near is None or not has_body_room(settings, solids, near, level):
+    near = cells_near(settings, i, k, i, k)
+    if near is None or not has_body_room(settings, solids, near, level, level):
         return "room"
     return None
 

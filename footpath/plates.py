@@ -1,6 +1,7 @@
 """Plates, the rectangles of joined floors, and portals, where they are joined to one another."""
 
 from footpath.floors import are_joined, floors_of, partner
+from footpath.solids import cells_in
 
 
 def tile_plates(settings, columns, a, b):
@@ -58,8 +59,7 @@ def row_below(settings, floors, taken, row):
 def plate_floors(plate):
     """Return the list of the floors (i, k, level) of a plate, by k, then by i."""
     _, i0, k0, i1, k1, levels = plate
-    cells = [(i, k) for k in range(k0, k1 + 1) for i in range(i0, i1 + 1)]
-    return [(i, k, level) for (i, k), level in zip(cells, levels)]
+    return [(i, k, level) for (i, k), level in zip(cells_in(i0, k0, i1, k1), levels)]
 
 
 def owners(plates):

@@ -11,54 +11,56 @@ def other_side(portal, plate):
     return p if plate == q else None
 
 
-def portals_at(mesh):
-    """Return a list with the ascending list of the indices of its portals for each plate."""
+def steps_at(mesh):
+    """Return for each plate the list of its steps, the pairs of a portal's index and the plate behind it, ascending."""
     plates, portals = mesh
     found = [[] for _ in plates]
     for index, (_, p, q, _, _, _, _) in enumerate(portals):
-        found[p].append(index)
-        found[q].append(index)
+        found[p].append((index, q))
+        found[q].append((index, p))
     return found
 
 
-def found_from(mesh, start):
-    """Return a dict from the plates that can be reached, in the order in which they are found.
+def found_from(steps, start):
+    """Return a dict from the plates that can be reached, in the order in which they are found in rounds.
 
-    Its values are the pairs of the plate before and the portal by which the plate is found,
-    and None for the start.
+    For each plate, its steps are pairs of a name and the plate to which it leads. The values are the
+    pairs of the plate before and the name of the step by which the plate is found, and None for the start.
     """
-    near = portals_at(mesh)
     found = {start: None}
     present = [start]
     while present:
         later = []
         for plate in present:
-            for index in near[plate]:
-                other = other_side(mesh[1][index], plate)
+            for name, other in steps[plate]:
                 if other not in found:
-                    found[other] = (plate, index)
+                    found[other] = (plate, name)
                     later.append(other)
         present = later
     return found
 
 
+def steps_to(found, goal):
+    """Return the list of the names of the steps by which a plate was found, or None if it was not."""
+    if goal not in found:
+        return None
+    names = []
+    step = found[goal]
+    while step is not None:
+        plate, name = step
+        names.append(name)
+        step = found[plate]
+    return names[::-1]
+
+
 def reached(mesh, start):
     """Return the ascending list of the plates that can be reached from a plate."""
-    return sorted(found_from(mesh, start))
+    return sorted(found_from(steps_at(mesh), start))
 
 
 def fewest(mesh, start, goal):
     """Return the way with the fewest portals from a plate to another one, or None."""
-    found = found_from(mesh, start)
-    if goal not in found:
-        return None
-    way = []
-    step = found[goal]
-    while step is not None:
-        plate, index = step
-        way.append(index)
-        step = found[plate]
-    return way[::-1]
+    return steps_to(found_from(steps_at(mesh), start), goal)
 
 
 def plates_of(mesh, start, way):
@@ -101,7 +103,7 @@ def cost(mesh, start, goal, way):
 def cheapest(mesh, start, goal):
     """Return the pair of the least cost of the ways between two places and a way with it, or None."""
     portals = mesh[1]
-    near = portals_at(mesh)
+    near = steps_at(mesh)
     # A step is a portal and the plate behind it: what may come next depends on both. The start
     # and the goal count as portals, too, with indices that no portal has.
     begin, end = (-1, start[2]), (len(portals), goal[2])
@@ -116,7 +118,7 @@ def cheapest(mesh, start, goal):
         if step == end:
             return (paid, way_back(before, begin, last))
         index, plate = step
-        later = [(other, other_side(portals[other], plate)) for other in near[plate] if other != index]
+        later = [choice for choice in near[plate] if choice[0] != index]
         if plate == goal[2]:
             later.append(end)
         for choice in later:

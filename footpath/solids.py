@@ -90,11 +90,19 @@ def triangle_range(settings, triangle):
     return met_range(settings, min(xs), min(zs), max(xs), max(zs))
 
 
+def cells_in(i0, k0, i1, k1):
+    """Return the list of the cells of a range, by k, then by i."""
+    return [(i, k) for k in range(k0, k1 + 1) for i in range(i0, i1 + 1)]
+
+
 def cells_in_both(one, other):
     """Return the list of the cells that are in two ranges, by k, then by i."""
-    across = range(max(one[0], other[0]), min(one[2], other[2]) + 1)
-    down = range(max(one[1], other[1]), min(one[3], other[3]) + 1)
-    return [(i, k) for k in down for i in across]
+    return cells_in(max(one[0], other[0]), max(one[1], other[1]), min(one[2], other[2]), min(one[3], other[3]))
+
+
+def grid_range(settings):
+    """Return the range of all cells of the grid."""
+    return (0, 0, settings.columns - 1, settings.rows - 1)
 
 
 def cells_of(settings, box):
@@ -129,7 +137,7 @@ def range_about(cells):
 
 def columns_of(settings, soup, boxes, i0, k0, i1, k1):
     """Return a dict from the grid's cells with i from i0 to i1 and k from k0 to k1 to their columns."""
-    cells = cells_in_both((i0, k0, i1, k1), (0, 0, settings.columns - 1, settings.rows - 1))
+    cells = cells_in_both((i0, k0, i1, k1), grid_range(settings))
     solids = solids_over(settings, soup, boxes, cells)
     return {cell: merged(solids[cell]) for cell in solids}
 

@@ -88,6 +88,33 @@ INTERFACE = {
         "Journey": ["tick"],
     },
     "console": {"run_script": ["text"]},
+    "links": {
+        "check_jumps": ["jumps"],
+        "is_flight": ["settings", "columns", "place", "other"],
+        "links_from": ["settings", "columns", "floors", "jumps", "place"],
+        "tile_links": ["settings", "columns", "jumps", "a", "b"],
+        "all_links": ["settings", "columns", "jumps"],
+    },
+    "trips": {
+        "net_of": ["settings", "columns", "jumps"],
+        "reached_over": ["net", "start"],
+        "route": ["net", "start", "goal"],
+        "trip": ["settings", "net", "start", "goal"],
+        "trip_paper": ["settings", "net", "found"],
+        "check_trip": ["settings", "soup", "boxes", "jumps", "papers"],
+    },
+    "crowd": {
+        "are_apart": ["settings", "one", "other"],
+        "last_stop": ["points", "position"],
+        "Crowd": ["add", "tick", "floor_of", "has_space", "is_stuck"],
+    },
+    "costs": {
+        "floor_cost": ["settings", "areas", "place"],
+        "Ground": ["has", "steps", "joined_cost"],
+        "cheapest_floors": ["ground", "start", "goal"],
+        "way_cost": ["ground", "way"],
+        "check_price": ["ground", "start", "goal", "paper"],
+    },
     "world": {"reached_tiles": ["settings", "box"], "World": ["put", "take", "box_list", "stale", "tile", "mesh"]},
 }
 

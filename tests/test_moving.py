@@ -5,15 +5,13 @@ import random
 import unittest
 
 from footpath.errors import PlaceError
-from footpath.locate import nearest_floor
 from footpath.moving import Journey, advanced, exact_point
-from footpath.papers import paper
 from footpath.plates import owners
 from footpath.settings import Settings
-from footpath.strings import find_way
 from footpath.world import World
 from tests.reference import some_box, some_world
 from tests.trails import as_number, at_number, some_garden, stands_free
+from tests.walkers import Twin, lengths
 
 GROUND = [((-9, 0, -9), (999, 0, -9), (-9, 0, 999))]
 FIELDS = ("status", "floor", "goal", "aim", "point", "string", "position", "ticks", "plans", "seen", "pieces", "speed")
@@ -27,10 +25,6 @@ def made(**changes):
 def wall(i):
     """A box that stands in both cells of a column of a grid of two rows."""
     return (4 * i + 1, 0, 1, 4 * i + 3, 9, 7, False)
-
-
-def lengths(points):
-    return [max(abs(c - a), abs(d - b)) for (a, b), (c, d) in zip(points, points[1:])]
 
 
 def some_string(chance):
@@ -306,56 +300,6 @@ class Journeys(unittest.TestCase):
         other.tick()
         self.assertEqual((len(other.string), len(other.pieces)), (2, 5))
         self.shown(one, ticks=0, position=(0, 0, 1))
-
-
-class Twin:
-    """A journey by the words of points 13.2 to 13.4; its point is a pair of fractions."""
-
-    def __init__(self, world, start, goal, speed):
-        self.world, self.speed = world, speed
-        plates = world.mesh()[0]
-        self.floor, self.goal = (nearest_floor(world.settings, plates, *point) for point in (start, goal))
-        self.point = self.nearest(self.floor, start)
-        self.aim = self.nearest(self.goal, goal)
-        self.ticks = self.plans = 0
-        self.plan()
-
-    def nearest(self, floor, point):
-        side = self.world.settings.cell
-        return tuple(sorted((n * side, p, (n + 1) * side))[1] for n, p in zip(floor, (point[0], point[2])))
-
-    def plan(self):
-        self.plans += 1
-        self.seen = self.world.changes
-        self.string, self.pieces, self.gone, self.status = [], [], 0, "blocked"
-        mesh = self.world.mesh()
-        owner = owners(mesh[0])
-        if self.floor in owner and self.goal in owner:
-            rounded = tuple(int(n // 1) for n in self.point)
-            way = find_way(mesh, rounded + (owner[self.floor],), self.aim + (owner[self.goal],))
-            if way:
-                self.string, self.point = way[3], rounded
-                self.pieces = paper(self.world.settings, mesh, way)[2]
-                self.status = "arrived" if len(self.string) == 1 else "walking"
-
-    def number(self):
-        parts = lengths(self.string)
-        at = max(n for n in range(len(self.string)) if sum(parts[:n]) <= self.gone)
-        return at + Fraction(self.gone - sum(parts[:at]), parts[at]) if at < len(parts) else Fraction(at)
-
-    def tick(self):
-        self.ticks += 1
-        if self.status == "arrived":
-            return
-        if self.seen != self.world.changes:
-            self.plan()
-        if self.status == "walking":
-            self.gone = min(self.gone + self.speed, sum(lengths(self.string)))
-            number = self.number()
-            self.point = at_number(self.string, number)
-            self.floor = next(piece[:3] for piece in self.pieces if as_number(piece[3:]) >= number)
-            if self.gone == sum(lengths(self.string)):
-                self.status, self.floor = "arrived", self.goal
 
 
 class AgainstTheWords(unittest.TestCase):
