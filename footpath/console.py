@@ -176,12 +176,12 @@ def performed(script, word, numbers):
     action = ACTIONS[word]
     try:
         return action(script, numbers)
-    except SettingsError as e:
-        return [spaced(["error", "SettingsError", e.name])]
-    except SoupError as e:
-        return [spaced(["error", "SoupError", e.at])]
-    except PlaceError as e:
-        return [spaced(["error", "PlaceError", e.name])]
+    except SettingsError as wrong:
+        return [spaced(["error", "SettingsError", wrong.name])]
+    except SoupError as unsound:
+        return [spaced(["error", "SoupError", unsound.at])]
+    except PlaceError as missing:
+        return [spaced(["error", "PlaceError", missing.name])]
 
 
 def run_script(text):
